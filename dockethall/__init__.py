@@ -1,0 +1,1 @@
+"""Dockethall: offices of clerks who hand dockets on, in any order."""
