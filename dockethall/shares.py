@@ -12,7 +12,7 @@ def is_within(thing, least, most):
 
 
 def greatest_divisor(one, other):
-    """Of two numbers from 0 on, not both 0."""
+    """Of two numbers from 0 on; each number divides 0, so of 0 and another one it is the other one."""
     while other != 0:
         rest = one % other
         one = other

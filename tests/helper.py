@@ -1,6 +1,10 @@
-"""What several test files need: things of any kind, refusals held to their class, and whole numbers without chance."""
+"""What several test files need: things of any kind, refusals held to their class, and numbers and offices without chance."""
+
+from fractions import Fraction
 
 from dockethall import errors
+from dockethall.clerks import Bundle, Copy, Deal, Rows
+from dockethall.offices import Office
 
 REFUSALS = (
     "NoShare", "NoClerk", "NoOffice", "NoText", "NoDocket", "Endless", "TooLong", "TooMany", "Unlike", "NoSum",
@@ -61,3 +65,60 @@ def numbers_in_turn(many, least, most, seed=1):
             wide = wide * 2 ** 56 + seed // 2 ** 8
         told.append(least + wide % (most - least + 1))
     return told
+
+
+def plain(number):
+    """A fraction of Python's own, a whole number or a text such as 2/3, as the program's tuple."""
+    number = Fraction(number)
+    return (number.numerator, number.denominator)
+
+
+def all_told(one):
+    """Everything that an office tells, the clerks as texts."""
+    staff = [(one.clerk(k).text(), one.leads(k)) for k in range(one.many())]
+    return (one.names(), one.doors(), one.entries(), one.many(), one.begin(), staff)
+
+
+def made_up_clerk(numbers, busy):
+    kind = next(numbers) % 4
+    if kind == 0:
+        return Deal(1 + next(numbers) % 6)
+    if kind == 1:
+        return Bundle(1 + next(numbers) % 12)
+    outs = next(numbers) % 4
+    if kind == 2:
+        return Copy([next(numbers) % busy for out in range(outs)])
+    return Rows([[next(numbers) % busy for out in range(outs)] for row in range(1 + next(numbers) % 5)])
+
+
+def made_up(seed, many, busy=3):
+    """The clerks, entries and doors of an office of all four kinds, the same at every run; the busier, the less rest."""
+    numbers = iter(numbers_in_turn(60 * many + 60, 0, 10 ** 9, seed))
+    names = [first + second for first in "abcdefgh" for second in "abcdefgh"][:many]
+    doors = ["out", "lost", "to", "door", "entry", "at"][:1 + next(numbers) % 6]
+    seats = []
+    for name in names:
+        clerk = made_up_clerk(numbers, busy)
+        leads = []
+        for out in range(clerk.outs()):
+            targets = doors if next(numbers) % 3 == 0 else names
+            leads.append(targets[next(numbers) % len(targets)])
+        seats.append((name, clerk, leads, next(numbers) % clerk.period()))
+    entries = [(entry, names[next(numbers) % many]) for entry in ["in", "out", "aa"][:1 + next(numbers) % 3]]
+    return (seats, entries, doors)
+
+
+def office_of(*rows):
+    """An office of rows (clerk, leads), the clerks called a, b, c and so on, all in state 0, with the doors x and y."""
+    names = "abcdefghijklmnopqrstuvw"
+    seats = [(names[k], clerk, leads.split(), 0) for k, (clerk, leads) in enumerate(rows)]
+    return Office(seats, [("in", "a")], ["x", "y"])
+
+
+def changed(told):
+    """Spoils a list that was told, and the lists in it."""
+    for each in told:
+        if isinstance(each, list):
+            changed(each)
+    told.append(99)
+    told[0] = 98

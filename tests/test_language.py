@@ -35,6 +35,11 @@ type typing typing_extensions enum Enum IntEnum StrEnum Flag IntFlag Generic Pro
 TypedDict TYPE_CHECKING abstractmethod
 """.split()
 
+# What is walked on the spot, and the names within which it may stand first for that.
+WALKED = ["zip", "enumerate", "reversed", "range"]
+WALKED_METHODS = ["items", "keys", "values"]
+WALKERS = ["list", "tuple", "dict", "sorted", "sum", "any", "all", "enumerate", "zip", "min", "max"]
+
 TWO_UNDERSCORES = ["__init__", "__eq__", "__repr__", "__str__", "__len__"]
 
 TAKEN_FILE_NAMES = ["test", "tests", "testing", "site", "conftest", "sitecustomize", "usercustomize"]
@@ -58,6 +63,22 @@ def nodes(*kinds):
     """Each node of these kinds, with the place where it stands."""
     return [(f"{name}:{getattr(node, 'lineno', 0)}", node)
             for name, tree in trees() for node in ast.walk(tree) if isinstance(node, kinds)]
+
+
+def is_walked(node):
+    """Whether a call gives something that must be walked where it stands."""
+    if not isinstance(node, ast.Call):
+        return False
+    return getattr(node.func, "id", None) in WALKED or getattr(node.func, "attr", None) in WALKED_METHODS
+
+
+def walked_at_once():
+    """All that is walked by the loop or the call that it stands in."""
+    told = [node.iter for place, node in nodes(ast.For, ast.comprehension)]
+    for place, node in nodes(ast.Call):
+        if getattr(node.func, "id", None) in WALKERS:
+            told.extend(node.args[:1])
+    return [(node.lineno, node.col_offset, ast.dump(node)) for node in told]
 
 
 def bound_at_top(tree):
@@ -180,6 +201,12 @@ class Forms(unittest.TestCase):
         for place, node in nodes(ast.BinOp):
             if isinstance(node.op, ast.Pow):
                 self.assertIn(getattr(node.right, "value", None), range(65), place)
+
+    def test_walked_on_the_spot(self):
+        at_once = walked_at_once()
+        for place, node in nodes(ast.Call):
+            if is_walked(node):
+                self.assertIn((node.lineno, node.col_offset, ast.dump(node)), at_once, place)
 
     def test_errors_are_taken_by_name(self):
         for place, node in nodes(ast.ExceptHandler):

@@ -4,7 +4,7 @@ import unittest
 
 from dockethall.clerks import Bundle, Clerk, Copy, Deal, Rows
 from dockethall.offices import Office, is_name
-from helper import HUGE, listed_things, odd_things, refused, texts
+from helper import HUGE, all_told, listed_things, odd_things, refused, texts
 
 NO_NAMES = ["", "abcdefg", "a" * 4000, "A", "aB", "abcdeF", "a1", "1", "a b", " a", "a ", "a\n", "\na", "\n", "abcdef\n",
             "abcde\n", "a\t", "a-b", "a_b", "_", "a,", "\u00e4", "\u00df", "\uff41", "\u0430", "a\u0301", "\u00aa", "-"]
@@ -33,12 +33,6 @@ def doors():
 
 def office():
     return Office(clerks(), entries(), doors())
-
-
-def all_told(one):
-    """Everything that an office tells, the clerks as texts."""
-    staff = [(one.clerk(k).text(), one.leads(k)) for k in range(one.many())]
-    return (one.names(), one.doors(), one.entries(), one.many(), one.begin(), staff)
 
 
 def plain(many):
