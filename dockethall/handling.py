@@ -1,4 +1,4 @@
-"""Handlings: dockets sent on one by one, in any order."""
+"""Handlings: dockets sent on one by one, in any order, or all that lie there at once."""
 
 from dockethall.errors import NoDocket
 from dockethall.shares import is_within
@@ -12,16 +12,31 @@ def nothing_out(office):
     return [0 for door in office.doors()]
 
 
+def lay(desks, out, leads, dockets):
+    """Changes desks and out by what goes by each of the leads."""
+    for lead, count in zip(leads, dockets):
+        if lead >= 0:
+            desks[lead] = desks[lead] + count
+        else:
+            out[-1 - lead] = out[-1 - lead] + count
+
+
 def handle(office, states, desks, out, k):
     """Changes the three lists, so that a long row of handlings copies them once; they are never a caller's own."""
     clerk = office.clerk(k)
     desks[k] = desks[k] - 1
-    for lead, dockets in zip(office.leads(k), clerk.row(states[k])):
-        if lead >= 0:
-            desks[lead] = desks[lead] + dockets
-        else:
-            out[-1 - lead] = out[-1 - lead] + dockets
+    lay(desks, out, office.leads(k), clerk.row(states[k]))
     states[k] = (states[k] + 1) % clerk.period()
+
+
+def handle_all(office, states, desks, out):
+    """Handles at once all that lies on the desks, and tells what came to them by it; states and out are changed."""
+    came = [0 for dockets in desks]
+    for k in able(desks):
+        clerk = office.clerk(k)
+        lay(came, out, office.leads(k), clerk.sent(states[k], desks[k]))
+        states[k] = (states[k] + desks[k]) % clerk.period()
+    return came
 
 
 def handled(office, states, desks, k):

@@ -36,24 +36,19 @@ def door_shares(office):
     return [shares_to(office, k, places) for k in range(office.many())]
 
 
-def worth_of(shares, worths):
-    """The sum of each share times its worth, brought to lowest terms only once, for that takes long."""
-    top = 0
-    bottom = 1
-    for part, worth in zip(shares, worths):
-        if part[0] != 0:
-            below = part[1] * worth[1]
-            top = top * below + part[0] * worth[0] * bottom
-            bottom = bottom * below
-    return share(top, bottom)
-
-
 def common_bottom(fractions):
     """The least whole number above 0 that makes each of them whole when it is timed by it."""
     least = 1
     for each in fractions:
         least = least * (each[1] // greatest_divisor(least, each[1]))
     return least
+
+
+def worth_of(shares, worths):
+    """The sum of each share times its worth, brought to lowest terms only once, for that takes long."""
+    parts = [(part[0] * worth[0], part[1] * worth[1]) for part, worth in zip(shares, worths) if part[0] != 0]
+    bottom = common_bottom(parts)
+    return share(sum([part[0] * (bottom // part[1]) for part in parts]), bottom)
 
 
 def least_whole(fractions):
@@ -66,11 +61,11 @@ def least_whole(fractions):
     return [top // divisor for top in tops]
 
 
-def whole_row(shares, k, scale):
-    """Row k in whole numbers; behind it the one by which a price is more than its sum, times the scale too."""
+def whole_row(shares, gain, k, scale):
+    """Row k in whole numbers; behind it the gain by which a worth is more than its sum, times the scale too."""
     row = [-each[0] * (scale // each[1]) for each in shares]
     row[k] = row[k] + scale
-    return row + [scale]
+    return row + [gain[0] * (scale // gain[1])]
 
 
 def without(row, leaver, k, last):
@@ -81,8 +76,8 @@ def without(row, leaver, k, last):
     return row[:k + 1] + later
 
 
-def prices_in(rows, last):
-    """With all left out: the last price first, and by it those ahead of it, all times last."""
+def worths_in(rows, last):
+    """With all left out: the last worth first, and by it those ahead of it, all times last."""
     many = len(rows)
     tops = [0 for row in rows]
     for k in range(many - 1, -1, -1):
@@ -102,9 +97,10 @@ def flow_in(rows, scales, k, last):
     return [share(each) for each in least_whole(flow)]
 
 
-def left_out(table):
-    scales = [common_bottom(shares) for shares in table]
-    rows = [whole_row(shares, k, scales[k]) for k, shares in enumerate(table)]
+def balanced(table, gains):
+    """("rest", worths), of which each is its gain and the sum of its shares by their worths, or ("unrest", flow)."""
+    scales = [common_bottom(shares + [gain]) for shares, gain in zip(table, gains)]
+    rows = [whole_row(table[k], gains[k], k, scale) for k, scale in enumerate(scales)]
     last = 1
     for k in range(len(table)):
         if rows[k][k] <= 0:
@@ -112,4 +108,8 @@ def left_out(table):
         ahead = rows[:k + 1]
         rows = ahead + [without(row, rows[k], k, last) for row in rows[k + 1:]]
         last = rows[k][k]
-    return ("rest", prices_in(rows, last))
+    return ("rest", worths_in(rows, last))
+
+
+def left_out(table):
+    return balanced(table, [share(1) for shares in table])

@@ -1,6 +1,8 @@
 """Papers: prices by which an office comes to rest, or a flow that goes round in it for ever."""
 
-from dockethall.leaving import least_whole, left_out, shares_of, worth_of
+from dockethall.errors import Endless
+from dockethall.handling import handle_all, nothing_out
+from dockethall.leaving import balanced, least_whole, left_out, shares_of, worth_of
 from dockethall.shares import is_whole, parted, share, under
 
 
@@ -32,12 +34,7 @@ def is_flow(office, thing):
 
 def sent_by(office, flow):
     """What comes to each desk of a flow; of whole rounds it is the same from each state."""
-    desks = [0 for count in flow]
-    for k, count in enumerate(flow):
-        for lead, dockets in zip(office.leads(k), office.clerk(k).sent(0, count)):
-            if lead >= 0:
-                desks[lead] = desks[lead] + dockets
-    return desks
+    return handle_all(office, [0 for count in flow], flow, nothing_out(office))
 
 
 def is_unrest(office, flow):
@@ -58,3 +55,15 @@ def paper(office):
     if told[0] == "rest":
         return told
     return ("unrest", whole_flow(office, told[1]))
+
+
+def worths_by(office, gains):
+    """The only worths of which each is its gain and the sum of its shares by their worths, where the office rests."""
+    told = balanced(shares_of(office), gains)
+    if told[0] == "unrest":
+        raise Endless(whole_flow(office, told[1]))
+    return told[1]
+
+
+def prices_of(office):
+    return worths_by(office, [share(1) for k in range(office.many())])

@@ -5,6 +5,7 @@ from fractions import Fraction
 from dockethall import errors
 from dockethall.clerks import Bundle, Copy, Deal, Rows
 from dockethall.offices import Office
+from dockethall.papers import paper
 
 REFUSALS = (
     "NoShare", "NoClerk", "NoOffice", "NoText", "NoDocket", "Endless", "TooLong", "TooMany", "Unlike", "NoSum",
@@ -67,6 +68,14 @@ def numbers_in_turn(many, least, most, seed=1):
     return told
 
 
+PICKS = [None, [], [0], [1], [2, 0], [5, 4, 3, 2, 1], [10 ** 18], [0, 10 ** 18, 1, 7], [10 ** 18 - 1, 10 ** 17 + 3, 2]]
+PICKS += [numbers_in_turn(many, 0, 10 ** 18, seed=many) for many in (3, 17, 64, 200)]
+
+
+def often(log, many):
+    return [log.count(k) for k in range(many)]
+
+
 def plain(number):
     """A fraction of Python's own, a whole number or a text such as 2/3, as the program's tuple."""
     number = Fraction(number)
@@ -113,6 +122,49 @@ def office_of(*rows):
     names = "abcdefghijklmnopqrstuvw"
     seats = [(names[k], clerk, leads.split(), 0) for k, (clerk, leads) in enumerate(rows)]
     return Office(seats, [("in", "a")], ["x", "y"])
+
+
+def resting(many, seeds, busy=3):
+    """Of made up offices of so many clerks those that have a paper of rest."""
+    offices = [Office(*made_up(seed, many, busy)) for seed in seeds]
+    return [one for one in offices if paper(one)[0] == "rest"]
+
+
+def unresting(many, seeds, busy=4):
+    offices = [Office(*made_up(seed, many, busy)) for seed in seeds]
+    return [one for one in offices if paper(one)[0] == "unrest"]
+
+
+def states_of(one):
+    """The beginning, all first states, all last ones, and some others."""
+    periods = [one.clerk(k).period() for k in range(one.many())]
+    numbers = numbers_in_turn(one.many(), 0, 10 ** 9, one.many())
+    return [one.begin(), [0] * one.many(), [period - 1 for period in periods],
+            [number % period for number, period in zip(numbers, periods)]]
+
+
+def long_way(ahead, ring, gate=1, outer=1, state=0):
+    """Seats that hand a docket on alone, to the door x, ahead + outer * (ring * gate + 1) times from state 0.
+
+    It goes by some desks to a ring, in which it goes round till the gate at its end lets it by, in its last state; then
+    by the outer gate, which sends it to the ring again but in its last state.
+    """
+    names = [first + second for first in "abcdefgh" for second in "abcdefgh"]
+    seats = [(names[k], Copy([1]), [names[k + 1]], 0) for k in range(ahead + ring - 1)]
+    last, over = names[ahead + ring - 1], names[ahead + ring]
+    seats.append((last, Rows([[1, 0]] * (gate - 1) + [[0, 1]]), [names[ahead], over], state))
+    seats.append((over, Rows([[1, 0]] * (outer - 1) + [[0, 1]]), [names[ahead], "x"], 0))
+    return seats
+
+
+def counter(value, *sizes):
+    """Bundles in a row, of as many rooms as their sizes make together; value of them are over at the beginning."""
+    names = "abcdef"[:len(sizes)] + "x"
+    seats = []
+    for k, size in enumerate(sizes):
+        seats.append((names[k], Bundle(size), [names[k + 1]], value % size))
+        value = value // size
+    return Office(seats, [("in", "a")], ["x"])
 
 
 def changed(told):

@@ -5,10 +5,8 @@ import unittest
 from dockethall.clerks import Bundle, Copy, Deal, Rows
 from dockethall.handling import able, handled, served
 from dockethall.offices import Office
-from helper import HUGE, all_told, changed, listed_things, made_up, numbers_in_turn, odd_things, office_of, refused, texts
-
-PICKS = [None, [], [0], [1], [2, 0], [5, 4, 3, 2, 1], [10 ** 18], [0, 10 ** 18, 1, 7], [10 ** 18 - 1, 10 ** 17 + 3, 2]]
-PICKS += [numbers_in_turn(many, 0, 10 ** 18, seed=many) for many in (3, 17, 64, 200)]
+from helper import (HUGE, PICKS, all_told, changed, listed_things, made_up, numbers_in_turn, odd_things, office_of, often,
+                    refused, texts)
 
 
 def by_names(made, states, desks, k):
@@ -40,10 +38,6 @@ def by_steps(one, states, desks, picks, most):
         out = [before + now for before, now in zip(out, gone)]
         log.append(k)
     return (states, desks, out, log)
-
-
-def often(log, many):
-    return [log.count(k) for k in range(many)]
 
 
 class Able(unittest.TestCase):
