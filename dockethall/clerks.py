@@ -7,6 +7,7 @@ FIGURES = "0123456789"
 MOST_OUTS = 6
 MOST_ROWS = 12
 MOST_SENT = 9
+MOST_FIGURES = 2
 
 
 def sums_of(one, other):
@@ -149,12 +150,16 @@ def row_text(row):
     return ",".join([str(count) for count in row])
 
 
-def read_number(text):
+def is_number(text, most):
     """Looked at sign by sign, for Python's own int takes blanks, signs and figures of other scripts too."""
-    if not 1 <= len(text) <= 2 or not all([sign in FIGURES for sign in text]):
-        raise NoClerk("a clerk's number has one or two figures")
-    if len(text) == 2 and text[0] == "0":
-        raise NoClerk("a clerk's number has no nought ahead")
+    if not 1 <= len(text) <= most or not all([sign in FIGURES for sign in text]):
+        return False
+    return text == "0" or text[0] != "0"
+
+
+def read_number(text):
+    if not is_number(text, MOST_FIGURES):
+        raise NoClerk("a clerk's number has one or two figures, and no nought ahead")
     return int(text)
 
 

@@ -25,8 +25,16 @@ def all_unlike(names):
     return len(set(names)) == len(names)
 
 
-def are_doors(thing):
-    return is_list(thing, MOST_DOORS) and all([is_name(door) for door in thing]) and all_unlike(thing)
+def are_names(thing, most):
+    return is_list(thing, most) and all([is_name(name) for name in thing]) and all_unlike(thing)
+
+
+def spare_names(taken):
+    """More names than an office has clerks, none of them taken."""
+    pairs = []
+    for first in LETTERS:
+        pairs.extend([first + second for second in LETTERS])
+    return [name for name in pairs if name not in taken]
 
 
 def are_texts(thing, many):
@@ -79,7 +87,7 @@ class Office:
     """Keeps copies of what it is made of, and hands out copies of what it keeps."""
 
     def __init__(self, clerks, entries, doors):
-        if not are_doors(doors):
+        if not are_names(doors, MOST_DOORS):
             raise NoOffice("doors")
         if not are_seats(clerks, doors):
             raise NoOffice("clerks")

@@ -4,6 +4,7 @@ from fractions import Fraction
 
 from dockethall import errors
 from dockethall.clerks import Bundle, Copy, Deal, Rows
+from dockethall.desk import Desk
 from dockethall.offices import Office
 from dockethall.papers import paper
 
@@ -174,3 +175,51 @@ def changed(told):
             changed(each)
     told.append(99)
     told[0] = 98
+
+
+def made_up_sum(numbers, parts, names):
+    """A sum of just so many parts, made of what an iterator of numbers tells."""
+    if parts == 1:
+        return ("name", names[next(numbers) % len(names)])
+    kind = next(numbers) % 4
+    if kind == 0 and parts > 2:
+        left = 1 + next(numbers) % (parts - 2)
+        return ("plus", made_up_sum(numbers, left, names), made_up_sum(numbers, parts - 1 - left, names))
+    if kind == 1:
+        return ("times", next(numbers) % 10, made_up_sum(numbers, parts - 1, names))
+    if kind == 2 and parts > 2:
+        return ("plus", made_up_sum(numbers, parts - 2, names), made_up_sum(numbers, 1, names))
+    bottom = 1 + next(numbers) % 12
+    return ("share", made_up_sum(numbers, parts - 1, names), next(numbers) % bottom, bottom)
+
+
+def within(inner, *outers):
+    """A sum with others about it, from the inside out; each is told by a tuple without its sum."""
+    for outer in outers:
+        inner = (outer[0], inner) + outer[1:] if outer[0] == "share" else outer + (inner,)
+    return inner
+
+
+def row_of(one, many, left=True):
+    """One sum so often, with a plus between each two, leaning to the left or to the right."""
+    told = one
+    for number in range(many - 1):
+        told = ("plus", told, one) if left else ("plus", one, told)
+    return told
+
+
+def told_by(desk):
+    """All that a desk keeps: its names, and what each office is, what lies in it and what went out of it."""
+    names = desk.say("names")
+    if names == "-":
+        return []
+    words = ("show", "states", "desks", "out")
+    return [[name] + [desk.say(f"{word} {name}") for word in words] for name in names.split(" ")]
+
+
+def at_desk(*rows):
+    """A new desk that was told these rows."""
+    desk = Desk()
+    for row in rows:
+        desk.say(row)
+    return desk
